@@ -1,0 +1,1 @@
+"""Fourbind: one program, bound four ways."""
