@@ -29,6 +29,13 @@ class Tree:
         self.body_rows = [(None, ())]
         self.ground_rows = []
         self.making_rows = []
+        # For each ground the statements right in it, for each statement its makings.
+        self.blocks = []
+        self.made = []
+        # From a statement to the next one of its block, from (sort, k) to a ground, from a fn to its body.
+        self.nexts = {}
+        self.inner = {}
+        self.fn_bodies = {None: 0}
         # A pile, not calls within calls: blocks may lie within one another however deep.
         pile = [Block("body", None, None, 0, program)]
         while pile:
@@ -38,26 +45,55 @@ class Tree:
 
     def enter(self, block):
         """Numbers the block's ground, and tells its statements as places."""
-        ground = len(self.ground_rows)
-        self.ground_rows.append((block.kind, block.k, block.around))
+        ground = self.begin_ground(block.kind, block.k, block.around)
         return [Place(statement, ground, block.body) for statement in block.inside]
 
     def meet(self, place):
         """Numbers the statement and what it makes, and tells its blocks."""
         statement, around, body = place.statement, place.ground, place.body
+        k = self.stand(place)
+        self.make(made_by(statement, k, around, len(self.ground_rows)))
+        if statement[0] == "fn":
+            body = self.begin_body(k, statement[2])
+        if statement[0] == "times" and statement[1] == "one":
+            around = self.begin_ground("head", k, around)
+        return [Block(kind, k, around, body, inside) for kind, inside in blocks_of(statement)]
+
+    def stand(self, place):
+        """Numbers the statement, behind the one ahead of it in its block."""
         k = len(self.places)
         self.places.append(place)
-        # The statement's first block is read right behind it, so the next ground is that
-        # block's or, of a times "one", the head's: the one with the params, or with the x.
-        following = len(self.ground_rows)
-        self.making_rows.extend(made_by(statement, k, around, following))
-        if statement[0] == "fn":
-            body = len(self.body_rows)
-            self.body_rows.append((k, statement[2]))
-        if statement[0] == "times" and statement[1] == "one":
-            self.ground_rows.append(("head", k, around))
-            around = following
-        return [Block(kind, k, around, body, inside) for kind, inside in blocks_of(statement)]
+        block = self.blocks[place.ground]
+        if block:
+            self.nexts[block[-1]] = k
+        block.append(k)
+        return k
+
+    def make(self, rows):
+        """Numbers the makings of the statement that stands last."""
+        first = len(self.making_rows)
+        self.making_rows.extend(rows)
+        self.made.append(list(range(first, len(self.making_rows))))
+
+    def begin_body(self, k, params):
+        body = len(self.body_rows)
+        self.body_rows.append((k, params))
+        self.fn_bodies[k] = body
+        return body
+
+    def begin_ground(self, kind, k, around):
+        ground = len(self.ground_rows)
+        self.ground_rows.append((kind, k, around))
+        self.blocks.append([])
+        self.inner[(kind, k)] = ground
+        return ground
+
+    def maker(self, m):
+        """The body in which making m is made."""
+        kind, k, around = self.ground_rows[self.making_rows[m][2]]
+        while kind != "body":
+            kind, k, around = self.ground_rows[around]
+        return self.fn_bodies[k]
 
 
 def blocks_of(statement):
@@ -76,6 +112,8 @@ def blocks_of(statement):
 
 def made_by(statement, k, ground, following):
     """The makings of statement k, which stands in this ground; following is the ground numbered next."""
+    # A statement's first block is read right behind it, so the ground numbered next is that
+    # block's or, of a times "one", the head's: the one with the params, or with the x.
     word = statement[0]
     if word in ("let", "sum", "call"):
         return [(statement[1], k, ground)]

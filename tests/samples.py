@@ -66,3 +66,182 @@ class Maker:
 def sample_programs(many):
     """So many programs, small and large ones, up to the bounds of point 2."""
     return [Maker(seed, seed % 61, seed % 9).program() for seed in range(many)]
+
+
+# Few, so that names are often made again within.
+FEW = tuple("abcdefgh")
+
+NUMBER = "number"
+
+
+class SoundMaker:
+    """Makes one program that is let by and goes on for a while: uses fit what their names were made as.
+
+    A sort is NUMBER or (sorts of the params, sort of what is given), as far as is known where it stands.
+    """
+
+    def __init__(self, seed, many, deep):
+        self.chance = random.Random(seed)
+        self.left = many
+        self.deep = deep
+        self.grounds = [{}]
+        self.gives = [None]
+
+    def odds(self, percent):
+        return self.chance.randrange(100) < percent
+
+    def new_name(self):
+        free = [name for name in FEW if name not in self.grounds[-1]]
+        # More pairs than there are statements, so that one is always free.
+        if not free:
+            pairs = ["x" + first + second for first in FEW for second in FEW]
+            free = [name for name in pairs if name not in self.grounds[-1]]
+        return self.chance.choice(free)
+
+    def make(self, sort):
+        name = self.new_name()
+        self.grounds[-1][name] = sort
+        return name
+
+    def in_sight(self):
+        found = {}
+        for ground in self.grounds:
+            found.update(ground)
+        return found
+
+    def names_of(self, fits):
+        return [name for name, sort in self.in_sight().items() if fits(sort)]
+
+    def number(self):
+        names = self.names_of(lambda sort: sort == NUMBER)
+        if self.odds(2) and self.in_sight():
+            return self.chance.choice(list(self.in_sight()))
+        if names and self.odds(75):
+            return self.chance.choice(names)
+        return self.chance.choice((0, 1, 2, 3, self.chance.randrange(10 ** 9)))
+
+    def atom(self, sort):
+        names = self.names_of(lambda other: other == sort)
+        if sort == NUMBER or not names:
+            return self.number()
+        return self.chance.choice(names)
+
+    def any_sort(self):
+        sorts = [sort for sort in self.in_sight().values() if sort != NUMBER]
+        return self.chance.choice(sorts) if sorts and self.odds(40) else NUMBER
+
+    def block(self, ground, most=5):
+        self.grounds.append(ground)
+        made = self.statements(self.chance.randint(0, most))
+        self.grounds.pop()
+        return made
+
+    def statements(self, many):
+        made = []
+        for _ in range(many):
+            if self.left > 0:
+                self.left -= 1
+                made.extend(self.statement())
+        return tuple(made)
+
+    def program(self):
+        made = []
+        while self.left > 0:
+            made.extend(self.statements(4))
+        return tuple(made)
+
+    def statement(self):
+        plain = ("let", "sum", "set", "set", "tell", "call", "call", "call", "give")
+        blocked = ("fn", "fn", "fn", "fn", "if", "while", "times", "times")
+        deep = len(self.grounds) - 1
+        word = self.chance.choice(plain + blocked if deep < self.deep else plain)
+        return getattr(self, "make_" + word)()
+
+    def make_let(self):
+        sort = self.any_sort()
+        atom = self.atom(sort)
+        return [("let", self.make(sort), atom)]
+
+    def make_sum(self):
+        sign, a, b = self.chance.choice(SIGNS), self.number(), self.number()
+        return [("sum", self.make(NUMBER), sign, a, b)]
+
+    def make_set(self):
+        names = list(self.in_sight())
+        if not names:
+            return self.make_let()
+        name = self.chance.choice(names)
+        return [("set", name, self.atom(self.in_sight()[name]))]
+
+    def make_tell(self):
+        return [("tell", self.number())]
+
+    def make_give(self):
+        # The program itself should go on for a while.
+        if not self.odds(35 if len(self.gives) > 1 else 5):
+            return self.make_tell()
+        if self.gives[-1] is None:
+            self.gives[-1] = self.any_sort()
+        return [("give", self.atom(self.gives[-1]))]
+
+    def make_call(self):
+        names = self.names_of(lambda sort: sort != NUMBER)
+        if not names:
+            return self.make_fn() if len(self.grounds) - 1 < self.deep else self.make_sum()
+        name = self.chance.choice(names)
+        params, gives = self.in_sight()[name]
+        args = [self.atom(sort) for sort in params]
+        if self.odds(2):
+            args.append(self.number())
+        return [("call", self.make(gives), name, tuple(args))]
+
+    def make_fn(self):
+        sorts = [self.any_sort() for _ in range(self.chance.choice((0, 0, 1, 1, 2, 3, 4)))]
+        name = self.new_name()
+        self.grounds[-1][name] = (tuple(sorts), NUMBER)
+        params = self.chance.sample(FEW, len(sorts))
+        self.grounds.append(dict(zip(params, sorts)))
+        self.gives.append(None)
+        block = list(self.statements(self.chance.randint(0, 6)))
+        if self.odds(60) and self.left > 0:
+            self.left -= 1
+            if self.gives[-1] is None:
+                self.gives[-1] = self.any_sort()
+            block.append(("give", self.atom(self.gives[-1])))
+        gives = self.gives.pop() or NUMBER
+        self.grounds.pop()
+        self.grounds[-1][name] = (tuple(sorts), gives)
+        return [("fn", name, tuple(params), tuple(block))]
+
+    def make_if(self):
+        return [("if", self.number(), self.block({}), self.block({}, 3))]
+
+    def make_while(self):
+        """Mostly counts down a name of its own, so that it ends."""
+        name = self.make(NUMBER)
+        first = ("let", name, self.chance.randint(0, 3))
+        self.left -= 3
+        self.grounds.append({})
+        less = self.make(NUMBER)
+        block = self.statements(self.chance.randint(0, 4))
+        made_again = name in self.grounds.pop()
+        down = ("sum", less, "-", name, 1)
+        if made_again:
+            return [first, ("while", 0, (down, *block))]
+        return [first, ("while", name, (down, *block, ("set", name, less)))]
+
+    def make_times(self):
+        mode = self.chance.choice(("own", "one"))
+        limit = self.number() if self.odds(20) else self.chance.choice((0, 1, 2, 3))
+        name = self.chance.choice(FEW)
+        if mode == "own":
+            return [("times", mode, name, limit, self.block({name: NUMBER}))]
+        self.grounds.append({name: NUMBER})
+        block = self.block({})
+        self.grounds.pop()
+        return [("times", mode, name, limit, block)]
+
+
+def sound_programs(many, first=0):
+    """So many programs that are let by, small and large ones, up to the bounds of point 2."""
+    return [SoundMaker(seed, 4 + seed % 50, 2 + seed % 7).program() for seed in range(first, first + many)]

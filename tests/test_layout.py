@@ -1,13 +1,15 @@
 """The package's files: the interface where the document lists it, and the plainest language rules."""
 
 import ast
+import builtins
 import pathlib
 import re
 import unittest
 
 FOLDER = pathlib.Path(__file__).resolve().parent.parent / "fourbind"
 
-# For each file, its functions and classes with their arguments; None where a class takes what its base takes.
+# For each file, its functions and classes with their arguments, those by name alone behind a star; None where a
+# class takes what its base takes.
 INTERFACE = {
     "errors.py": {
         "BindError": None, "NoText": ["row"], "NoProgram": ["word", "at", "name"], "NoPlan": ["word", "at"],
@@ -18,6 +20,17 @@ INTERFACE = {
         "statements": ["program"], "body_at": ["program", "k"], "bodies": ["program"], "grounds": ["program"],
         "makings": ["program"],
     },
+    "writer.py": {"shown": ["program"]},
+    "reader.py": {"read": ["text"]},
+    "looking.py": {"look": ["program"], "meant": ["program"]},
+    "plain.py": {"Plain": ["program"], "plain_run": ["program", "*most"]},
+}
+
+# The methods that the interface lists for a class, each with its arguments.
+METHODS = {
+    ("plain.py", "Plain"): {
+        "turn": [], "mark": [], "marks": [], "told": [], "end": [], "seen": ["m"], "whose": ["m"], "__len__": [],
+    },
 }
 
 # L17: words that occur nowhere in a file, comments included.
@@ -27,14 +40,28 @@ BARRED = re.compile(
 )
 
 
+def parameters(function):
+    """The arguments of a function, those by name alone behind a star."""
+    return [part.arg for part in function.args.args] + ["*" + part.arg for part in function.args.kwonlyargs]
+
+
+def methods(node):
+    """The methods that stand in a class itself, with their arguments."""
+    return {part.name: parameters(part)[1:] for part in node.body if isinstance(part, ast.FunctionDef)}
+
+
 def arguments(node):
     """The arguments of a function, or those that a class is made with."""
     if isinstance(node, ast.FunctionDef):
-        return [part.arg for part in node.args.args]
-    for part in node.body:
-        if isinstance(part, ast.FunctionDef) and part.name == "__init__":
-            return [inner.arg for inner in part.args.args[1:]]
-    return None
+        return parameters(node)
+    return methods(node).get("__init__")
+
+
+def bound_names(node):
+    """The parameters and local variables of a function."""
+    found = parameters(node)
+    found += [part.id for part in ast.walk(node) if isinstance(part, ast.Name) and isinstance(part.ctx, ast.Store)]
+    return {name.lstrip("*") for name in found}
 
 
 class Layout(unittest.TestCase):
@@ -51,6 +78,44 @@ class Layout(unittest.TestCase):
             for thing, args in wanted.items():
                 self.assertIn(thing, defined)
                 self.assertEqual(defined[thing], args, thing)
+
+    def test_methods_stand_in_their_classes(self):
+        texts = dict(self.files())
+        for (name, wanted), listed in METHODS.items():
+            node = next(part for part in ast.parse(texts[name]).body if getattr(part, "name", "") == wanted)
+            for method, args in listed.items():
+                self.assertEqual(methods(node).get(method), args, (wanted, method))
+
+    def test_no_method_is_an_attribute_elsewhere(self):
+        """L18, of the whole package."""
+        called, stored, read = set(), set(), set()
+        for name, text in self.files():
+            for node in ast.walk(ast.parse(text)):
+                if isinstance(node, ast.ClassDef):
+                    called |= set(methods(node))
+                if isinstance(node, ast.Attribute):
+                    (stored if isinstance(node.ctx, ast.Store) else read).add(node.attr)
+        self.assertEqual(called & stored, set())
+        builtin = {method for kind in (str, list, dict, tuple, int) for method in dir(kind)}
+        self.assertEqual(read - called - stored - builtin, set())
+
+    def test_names_are_free(self):
+        """L12, L15: none begins with an underscore, is a builtin's, a class's or an import's of its file."""
+        for name, text in self.files():
+            tree = ast.parse(text)
+            taken = set(dir(builtins)) | {node.name for node in tree.body if isinstance(node, ast.ClassDef)}
+            for node in tree.body:
+                if isinstance(node, ast.ImportFrom):
+                    taken |= {part.name for part in node.names}
+            for node in ast.walk(tree):
+                if isinstance(node, ast.FunctionDef):
+                    self.assertEqual(bound_names(node) & taken, set(), (name, node.name))
+                    self.assertFalse([word for word in bound_names(node) if word.startswith("_")], (name, node.name))
+
+    def test_lists_where_generators_are_barred(self):
+        """L7: once a class has an `__eq__`, any, all, sum and the like take lists; so they do from the start."""
+        for name, text in self.files():
+            self.assertFalse([node for node in ast.walk(ast.parse(text)) if isinstance(node, ast.GeneratorExp)], name)
 
     def test_folder_has_python_files_alone(self):
         others = [path.name for path in FOLDER.iterdir() if path.suffix != ".py" and path.name != "__pycache__"]

@@ -5,6 +5,7 @@ import unittest
 
 from fourbind.trees import bodies, body_at, grounds, makings, statements
 from samples import sample_programs
+from spelled import Spelled
 
 # Every form of statement, each with its number.
 GIVE_Q = ("give", "q")  # 5
@@ -280,65 +281,13 @@ class AskersOwn(unittest.TestCase):
         self.assertEqual(body_at(WHOLE, 5), 2)
 
 
-class Spelled:
-    """Point 5 once more, block by block by calls within calls, to set the lists against."""
-
-    def __init__(self, program):
-        self.stand, self.owners = [], []
-        self.bodies, self.grounds, self.makings = [(None, ())], [], []
-        self.go_in(program, self.ground("body", None, None), 0)
-
-    def ground(self, sort, k, around):
-        self.grounds.append((sort, k, around))
-        return len(self.grounds) - 1
-
-    def go_in(self, block, ground, body):
-        for statement in block:
-            self.stand.append(statement)
-            self.owners.append(body)
-            getattr(self, "do_" + statement[0])(len(self.stand) - 1, ground, body, *statement[1:])
-
-    def do_let(self, k, ground, body, x, *rest):
-        self.makings.append((x, k, ground))
-
-    do_sum = do_call = do_let
-
-    def do_tell(self, k, ground, body, *rest):
-        pass
-
-    do_set = do_give = do_tell
-
-    def do_fn(self, k, ground, body, x, params, block):
-        self.do_let(k, ground, body, x)
-        inner = self.ground("body", k, ground)
-        for name in params:
-            self.do_let(k, inner, body, name)
-        self.bodies.append((k, params))
-        self.go_in(block, inner, len(self.bodies) - 1)
-
-    def do_if(self, k, ground, body, a, one, other):
-        self.go_in(one, self.ground("one", k, ground), body)
-        self.go_in(other, self.ground("other", k, ground), body)
-
-    def do_while(self, k, ground, body, a, block):
-        self.go_in(block, self.ground("while", k, ground), body)
-
-    def do_times(self, k, ground, body, mode, x, a, block):
-        if mode == "one":
-            ground = self.ground("head", k, ground)
-            self.do_let(k, ground, body, x)
-        inner = self.ground("times", k, ground)
-        if mode == "own":
-            self.do_let(k, inner, body, x)
-        self.go_in(block, inner, body)
-
-
 class AgainstSpelled(Lists):
     def test_many_programs(self):
         for program in sample_programs(400):
             spelled = Spelled(program)
             self.lists(
-                program, stand=spelled.stand, owners=spelled.owners, of_bodies=spelled.bodies,
+                program, stand=[node.statement for node in spelled.nodes],
+                owners=[node.body for node in spelled.nodes], of_bodies=spelled.bodies,
                 of_grounds=spelled.grounds, of_makings=spelled.makings,
             )
 
