@@ -1,5 +1,8 @@
 """Rows: the marks of a body, and what may come behind each."""
 
+from fourbind.looking import Looked
+from fourbind.trees import Tree
+
 # The mark that comes behind the last statement of a loop's block.
 AGAIN = {"while": "do", "times": "step"}
 
@@ -84,3 +87,85 @@ def made_at(tree, mark):
         return ()
     # Params and the x of a times are in another ground than their statement: made where that is gone in.
     return tuple([m for m in tree.made[k] if tree.making_rows[m][2] == ground])
+
+
+def set_at(looked, mark):
+    """The making that the mark sets, None where it sets none."""
+    word, at = mark
+    if word not in ("do", "step"):
+        return None
+    statement = looked.places[at].statement
+    if word == "do" and statement[0] == "set":
+        return looked.meanings[at][0]
+    if word == "step" and statement[1] == "one":
+        return looked.made[at][0]
+    return None
+
+
+def marks_within(tree, mark):
+    """The marks that stand right within what the mark begins, in reading order."""
+    word, at = mark
+    if word == "in":
+        kind, k, around = tree.ground_rows[at]
+        if kind == "head":
+            return [("in", tree.inner[("times", k)])]
+        return [("do", k) for k in tree.blocks[at]]
+    if word != "do":
+        return []
+    statement = tree.places[at].statement
+    if statement[0] == "call":
+        return [("back", at)]
+    if statement[0] == "if":
+        return goals_of_do(tree, at)
+    if statement[0] == "while":
+        return [("in", tree.inner[("while", at)])]
+    if statement[0] == "times":
+        return [goals_of_do(tree, at)[0], ("step", at)]
+    return []
+
+
+def marks_in(tree, body):
+    """The marks of a body, each in the place of its row."""
+    fn, params = tree.body_rows[body]
+    found = []
+    pile = [("in", tree.inner[("body", fn)])]
+    while pile:
+        mark = pile.pop()
+        found.append(mark)
+        pile.extend(marks_within(tree, mark)[::-1])
+    return found
+
+
+def rows_in(tree, body):
+    """The rows of a body."""
+    found = marks_in(tree, body)
+    numbers = {mark: at for at, mark in enumerate(found)}
+    numbers[None] = None
+    return [(mark, tuple([numbers[goal] for goal in goal_marks(tree, mark)])) for mark in found]
+
+
+def is_road(rows, road):
+    """True where these are numbers of rows, one at least, each a goal of the one ahead."""
+    if not road or any([not 0 <= at < len(rows) for at in road]):
+        return False
+    return all([behind in rows[ahead][1] for ahead, behind in zip(road, road[1:])])
+
+
+def rows_of(program, body):
+    """The rows of the body: (mark, goals), None among the goals for the body's end."""
+    return rows_in(Tree(program), body)
+
+
+def makes(program, mark):
+    """The makings that the mark makes."""
+    return made_at(Tree(program), mark)
+
+
+def sets(program, mark):
+    """The making that the mark sets, or None."""
+    return set_at(Looked(program), mark)
+
+
+def road_holds(program, body, road):
+    """True where this is a road of rows of the body, from any row on."""
+    return is_road(rows_in(Tree(program), body), road)

@@ -1,6 +1,9 @@
-"""Programs for the tests: made by chance from a fixed seed, of the forms, let by or not."""
+"""Programs for the tests: made by chance from a fixed seed, of the forms, let by or not; and what is made of them."""
 
 import random
+
+from fourbind.known import may_be_known
+from fourbind.reader import read
 
 NAMES = ("a", "b", "f", "g", "sum", "abcdef")
 SIGNS = ("+", "-", "*", "<", "=")
@@ -245,3 +248,29 @@ class SoundMaker:
 def sound_programs(many, first=0):
     """So many programs that are let by, small and large ones, up to the bounds of point 2."""
     return [SoundMaker(seed, 4 + seed % 50, 2 + seed % 7).program() for seed in range(first, first + many)]
+
+
+def rows(*texts):
+    """The program of these rows."""
+    return read("\n".join(texts))
+
+
+def knowns(program, seed):
+    """Nothing known, all that may be, and some of these."""
+    may = may_be_known(program)
+    chance = random.Random(seed)
+    some = tuple(body for body in may if chance.randrange(2))
+    return sorted({(), may, some})
+
+
+def spoiled(chance, road, many):
+    """The road with a number otherwise, left out, put in, twice, at each place; cut off, empty, said twice."""
+    found = [(), road + road, road[:1], road[1:], road[:-1]]
+    for at in range(len(road) + 1):
+        number = chance.randrange(-1, many + 1)
+        found.append(road[:at] + (number,) + road[at:])
+        if at < len(road):
+            found.append(road[:at] + (number,) + road[at + 1:])
+            found.append(road[:at] + road[at + 1:])
+            found.append(road[:at] + (road[at],) + road[at:])
+    return found

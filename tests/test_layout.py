@@ -24,6 +24,19 @@ INTERFACE = {
     "reader.py": {"read": ["text"]},
     "looking.py": {"look": ["program"], "meant": ["program"]},
     "plain.py": {"Plain": ["program"], "plain_run": ["program", "*most"]},
+    "flow.py": {
+        "rows_of": ["program", "body"], "makes": ["program", "mark"], "sets": ["program", "mark"],
+        "road_holds": ["program", "body", "road"],
+    },
+    "known.py": {"may_be_known": ["program"], "why_not": ["program", "body"]},
+    "needs.py": {
+        "needs": ["program", "*known"], "chain": ["program", "body", "m", "*known"],
+        "chain_holds": ["program", "body", "m", "road", "*known"], "packs": ["program", "*known"],
+    },
+    "cells.py": {
+        "copying": ["program", "m", "*known"], "least_cells": ["program", "*known"],
+        "why_cell": ["program", "m", "*known"], "paper_holds": ["program", "m", "paper", "*known"],
+    },
 }
 
 # The methods that the interface lists for a class, each with its arguments.

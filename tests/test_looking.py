@@ -5,14 +5,8 @@ import unittest
 
 from fourbind.errors import NoProgram
 from fourbind.looking import look, meant
-from fourbind.reader import read
-from samples import sample_programs, sound_programs
+from samples import rows, sample_programs, sound_programs
 from spelled import Spelled
-
-
-def rows(*texts):
-    """The program of these rows."""
-    return read("\n".join(texts))
 
 
 class Looking(unittest.TestCase):

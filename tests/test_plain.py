@@ -4,15 +4,9 @@ import copy
 import unittest
 
 from fourbind.plain import MOST, Plain, plain_run
-from fourbind.reader import read
 from fourbind.words import WIDE
-from samples import sound_programs
+from samples import rows, sound_programs
 from spelled import Run, Spelled
-
-
-def rows(*texts):
-    """The program of these rows."""
-    return read("\n".join(texts))
 
 
 def marks_of(text):
