@@ -187,7 +187,8 @@ class Plain:
             self.numbers.append(values[0])
         elif word == "set":
             m = self.looked.meanings[k][0]
-            nearest_with(self.room, m).held[m] = values[1]
+            room = nearest_with(self.room, m)
+            room.held[m] = values[1]
         elif word == "fn":
             self.make(k, Made(self.looked.fn_bodies[k], self.many_fns, self.room))
             self.many_fns += 1
