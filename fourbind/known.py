@@ -7,8 +7,7 @@ def first_bar(looked, body):
     """The first statement by which the body may not be known, None where it may, and of body 0."""
     if body == 0:
         return None
-    fn, params = looked.body_rows[body]
-    name = looked.made[fn][0]
+    name = looked.name_of(body)
     for k, place in enumerate(looked.places):
         meanings = looked.meanings[k]
         # The first use of a call is what it calls, and bars nothing.

@@ -10,7 +10,7 @@ class Web:
         self.looked = Looked(program)
         self.known = known
         # From the makings of the known ones' names to their bodies.
-        self.names = {self.looked.made[self.looked.body_rows[body][0]][0]: body for body in known}
+        self.names = {self.looked.name_of(body): body for body in known}
         self.steps = [[] for row in self.looked.body_rows]
         for k, place in enumerate(self.looked.places):
             if self.step_from(k) is not None:

@@ -95,6 +95,11 @@ class Tree:
             kind, k, around = self.ground_rows[around]
         return self.fn_bodies[k]
 
+    def name_of(self, body):
+        """The making of the body's name, None of body 0."""
+        fn, params = self.body_rows[body]
+        return None if fn is None else self.made[fn][0]
+
 
 def blocks_of(statement):
     """The blocks in a statement, in order, each behind the sort of its ground."""

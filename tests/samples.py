@@ -255,6 +255,23 @@ def rows(*texts):
     return read("\n".join(texts))
 
 
+# a, f, p, q, s, x, b, i, j: each form of statement.
+FORMS = rows(
+    "let a 1", "fn f p q", "let s p - a", "set a s", "tell q", "give s", "end", "call x f a 2", "if x", "let b x",
+    "else", "tell 0", "end", "while a", "set a 0", "end", "times own i 3", "tell i", "end", "times one j x", "set j 9",
+    "end",
+)
+
+
+def flat(thing):
+    """All that lies in tuples within tuples, and the tuples too."""
+    found = [thing]
+    if isinstance(thing, tuple):
+        for part in thing:
+            found.extend(flat(part))
+    return found
+
+
 def knowns(program, seed):
     """Nothing known, all that may be, and some of these."""
     may = may_be_known(program)
@@ -273,4 +290,90 @@ def spoiled(chance, road, many):
             found.append(road[:at] + (number,) + road[at + 1:])
             found.append(road[:at] + road[at + 1:])
             found.append(road[:at] + (road[at],) + road[at:])
+    return found
+
+
+class LivelyMaker(SoundMaker):
+    """Makes programs whose bodies are kept and called a lot, names being set between, so that copies get behind."""
+
+    PLAIN = ("set",) * 4 + ("call",) * 6 + ("let", "sum", "tell", "give", "give")
+    BLOCKED = ("fn",) * 5 + ("if", "while", "times", "times", "times")
+
+    def statement(self):
+        words = self.PLAIN + self.BLOCKED if len(self.grounds) <= self.deep else self.PLAIN
+        return getattr(self, "make_" + self.chance.choice(words))()
+
+    def make_set(self):
+        """Mostly of a name that is made further out, and to a number that it hardly was yet."""
+        found = self.in_sight()
+        numbers = [name for name in found if found[name] == NUMBER]
+        if not numbers or self.odds(20):
+            return SoundMaker.make_set(self)
+        outer = [name for name in numbers if name not in self.grounds[-1]]
+        return [("set", self.chance.choice(outer or numbers), self.chance.randrange(100))]
+
+    def any_sort(self):
+        """What is given, handed and let is a body more often than not."""
+        sorts = [sort for sort in self.in_sight().values() if sort != NUMBER]
+        return self.chance.choice(sorts) if sorts and self.odds(65) else NUMBER
+
+    def make_fn(self):
+        """Mostly with a call right behind it."""
+        made = SoundMaker.make_fn(self)
+        if self.left > 0 and self.odds(60):
+            self.left -= 1
+            made += self.make_call()
+        return made
+
+    def make_give(self):
+        return self.make_call() if len(self.gives) == 1 else SoundMaker.make_give(self)
+
+    def program(self):
+        """Behind all, sets and calls of what is in sight."""
+        made = [("let", self.make(NUMBER), 1), ("let", self.make(NUMBER), 2)]
+        made.extend(SoundMaker.program(self))
+        for _ in range(4):
+            made.extend(self.make_set() + self.make_call())
+        return tuple(made)
+
+
+class LoopMaker(LivelyMaker):
+    """Makes bodies in arms and loops within loops, that use what is made there."""
+
+    PLAIN = ("let", "sum", "set", "call", "call", "fn")
+    BLOCKED = ("fn", "fn", "if", "if", "if", "while", "times", "times", "times", "times")
+
+    def block(self, ground, most=4):
+        self.grounds.append(ground)
+        made = self.statements(self.chance.randint(2, 4))
+        self.grounds.pop()
+        return made
+
+    def near_number(self):
+        """One that was made in one of the nearest grounds, if there is any."""
+        found = self.in_sight()
+        for ground in self.chance.sample(self.grounds[-3:], min(3, len(self.grounds))):
+            near = [name for name in ground if ground[name] == NUMBER and found[name] == NUMBER]
+            if near:
+                return self.chance.choice(near)
+        return self.number()
+
+    def make_fn(self):
+        """Mostly a small one, which is always within the depth that is left, and a call behind it."""
+        if len(self.grounds) <= self.deep and self.odds(40):
+            return LivelyMaker.make_fn(self)
+        self.left -= 3
+        near = self.near_number()
+        name = self.make(((), NUMBER))
+        call = ("call", self.make(NUMBER), name, ())
+        return [("fn", name, (), (("tell", near), ("give", near))), call]
+
+
+def lively_programs(many, first=0):
+    """So many programs that are let by, within the bounds of point 2, most of them with least cells."""
+    found = []
+    for seed in range(first, first + many):
+        loops = seed % 3 == 2
+        maker = LoopMaker(seed, 16 + seed % 26, 5) if loops else LivelyMaker(seed, 6 + seed % 36, 2 + seed % 3)
+        found.append(maker.program())
     return found

@@ -37,6 +37,13 @@ INTERFACE = {
         "copying": ["program", "m", "*known"], "least_cells": ["program", "*known"],
         "why_cell": ["program", "m", "*known"], "paper_holds": ["program", "m", "paper", "*known"],
     },
+    "plans.py": {"Plan": ["*known", "*cells"], "look_plan": ["program", "plan"], "plan_of": ["program", "way"]},
+    "rooms.py": {
+        "shared": ["program"], "roomed": ["program"], "why_room": ["program", "ground"], "home": ["program", "m"],
+        "hops": ["program", "k"],
+    },
+    "linked.py": {"linked": ["program"]},
+    "packed.py": {"packed": ["program", "plan"]},
 }
 
 # The methods that the interface lists for a class, each with its arguments.
@@ -44,6 +51,7 @@ METHODS = {
     ("plain.py", "Plain"): {
         "turn": [], "mark": [], "marks": [], "told": [], "end": [], "seen": ["m"], "whose": ["m"], "__len__": [],
     },
+    ("plans.py", "Plan"): {"__eq__": ["other"], "__repr__": [], "__len__": []},
 }
 
 # L17: words that occur nowhere in a file, comments included.
@@ -152,6 +160,25 @@ class Layout(unittest.TestCase):
                 self.assertNotIsInstance(node, ast.Import, name)
                 if isinstance(node, ast.ImportFrom):
                     self.assertTrue(node.level == 0 and node.module.startswith("fourbind."), (name, node.module))
+
+    def test_imports_are_from_the_files_that_define_them_and_never_in_a_round(self):
+        """L16."""
+        defined, wanted = {}, {}
+        for name, text in self.files():
+            module = "fourbind." + name[:-3]
+            body = ast.parse(text).body
+            defined[module] = {node.name for node in body if isinstance(node, (ast.FunctionDef, ast.ClassDef))}
+            defined[module] |= {part.id for node in body if isinstance(node, ast.Assign) for part in node.targets}
+            wanted[module] = [node for node in body if isinstance(node, ast.ImportFrom)]
+        for module, nodes in wanted.items():
+            for node in nodes:
+                self.assertLessEqual({part.name for part in node.names}, defined[node.module], (module, node.module))
+        left = {module: {node.module for node in nodes} for module, nodes in wanted.items()}
+        while left:
+            free = [module for module in left if not left[module] & set(left)]
+            self.assertTrue(free, left)
+            for module in free:
+                del left[module]
 
 
 if __name__ == "__main__":
