@@ -10,8 +10,8 @@ from fourbind.flow import ground_at_hand, made_at, rows_in
 
 def made_bodies(binding):
     """The bodies of the binding's program, made in its way."""
-    bodies = range(len(binding.web.looked.body_rows))
-    return tuple([(binding.head(body), made_rows(binding, body)) for body in bodies])
+    many = len(binding.web.looked.body_rows)
+    return tuple([(binding.head(body), made_rows(binding, body)) for body in range(many)])
 
 
 def made_rows(binding, body):

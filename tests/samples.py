@@ -2,8 +2,11 @@
 
 import random
 
+from fourbind.cells import least_cells
 from fourbind.known import may_be_known
+from fourbind.plans import WAYS, Plan, plan_of
 from fourbind.reader import read
+from fourbind.trees import bodies, makings
 
 NAMES = ("a", "b", "f", "g", "sum", "abcdef")
 SIGNS = ("+", "-", "*", "<", "=")
@@ -376,4 +379,40 @@ def lively_programs(many, first=0):
         loops = seed % 3 == 2
         maker = LoopMaker(seed, 16 + seed % 26, 5) if loops else LivelyMaker(seed, 6 + seed % 36, 2 + seed % 3)
         found.append(maker.program())
+    return found
+
+
+def known_names(program, known):
+    """The makings of the names of these bodies."""
+    fns = [bodies(program)[body][0] for body in known]
+    return [[m for m, row in enumerate(makings(program)) if row[1] == k][0] for k in fns]
+
+
+def holding_plans(program, seed):
+    """Plans that hold, None for the linked way ahead: those of the ways; the least cells, more, all, by known sets."""
+    chance = random.Random(seed)
+    found = [plan_of(program, way) for way in WAYS]
+    for known in knowns(program, seed):
+        names = known_names(program, known)
+        free = [m for m in range(len(makings(program))) if m not in names]
+        least = least_cells(program, known=known)
+        for cells in (least, tuple(m for m in free if m in least or chance.randrange(2)), tuple(free)):
+            plan = Plan(known=known, cells=cells)
+            if plan not in found:
+                found.append(plan)
+    return found
+
+
+def lacking_plans(program, seed):
+    """Plans as in point 29, most of which don't hold: no cells, some of the least, any."""
+    chance = random.Random(seed)
+    found = []
+    for known in knowns(program, seed):
+        names = known_names(program, known)
+        some = tuple(m for m in least_cells(program, known=known) if chance.randrange(2))
+        few = tuple(m for m in range(len(makings(program))) if m not in names and chance.randrange(2))
+        for cells in ((), some, few):
+            plan = Plan(known=known, cells=cells)
+            if plan not in found:
+                found.append(plan)
     return found

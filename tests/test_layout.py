@@ -44,6 +44,10 @@ INTERFACE = {
     },
     "linked.py": {"linked": ["program"]},
     "packed.py": {"packed": ["program", "plan"]},
+    "machine.py": {"Machine": ["program", "*plan"], "machine_run": ["program", "*plan", "*most"]},
+    "bills.py": {"bill": ["program", "*plan"]},
+    "four.py": {"Four": ["program"]},
+    "desk.py": {"Desk": []},
 }
 
 # The methods that the interface lists for a class, each with its arguments.
@@ -52,6 +56,15 @@ METHODS = {
         "turn": [], "mark": [], "marks": [], "told": [], "end": [], "seen": ["m"], "whose": ["m"], "__len__": [],
     },
     ("plans.py", "Plan"): {"__eq__": ["other"], "__repr__": [], "__len__": []},
+    ("machine.py", "Machine"): {
+        "turn": [], "mark": [], "marks": [], "told": [], "end": [], "seen": ["m"], "costs": [], "__len__": [],
+    },
+    ("four.py", "Four"): {
+        "turn": [], "apart": [], "mark": [], "end": [], "seen": ["way", "m"], "costs": ["way"],
+    },
+    ("desk.py", "Desk"): {
+        "say": ["row"], "say_all": ["rows", "*quiet"], "log": [], "open_rows": [], "__len__": [],
+    },
 }
 
 # L17: words that occur nowhere in a file, comments included.
@@ -137,6 +150,16 @@ class Layout(unittest.TestCase):
         """L7: once a class has an `__eq__`, any, all, sum and the like take lists; so they do from the start."""
         for name, text in self.files():
             self.assertFalse([node for node in ast.walk(ast.parse(text)) if isinstance(node, ast.GeneratorExp)], name)
+
+    def test_what_is_iterated_at_once_is_not_stored(self):
+        """L23."""
+        barred = ("range", "zip", "enumerate", "reversed", "items", "keys", "values")
+        for name, text in self.files():
+            for node in ast.walk(ast.parse(text)):
+                if isinstance(node, (ast.Assign, ast.Return)) and isinstance(node.value, ast.Call):
+                    called = node.value.func
+                    word = called.id if isinstance(called, ast.Name) else getattr(called, "attr", "")
+                    self.assertNotIn(word, barred, (name, node.lineno))
 
     def test_folder_has_python_files_alone(self):
         others = [path.name for path in FOLDER.iterdir() if path.suffix != ".py" and path.name != "__pycache__"]

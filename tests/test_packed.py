@@ -1,7 +1,6 @@
 """Programs made by plans (points 3, 26)."""
 
 import copy
-import random
 import unittest
 
 from fourbind.cells import least_cells
@@ -10,8 +9,8 @@ from fourbind.known import may_be_known
 from fourbind.needs import chain, chain_holds, needs
 from fourbind.packed import packed
 from fourbind.plans import CELLED, COPIED, HANDED, Plan, plan_of
-from samples import FORMS, flat, knowns, lively_programs, rows, sound_programs
-from spelled import Known, Spelled
+from samples import FORMS, flat, holding_plans, lacking_plans, lively_programs, rows, sound_programs
+from spelled import Spelled
 from spelled_ways import PackedRows, made_program
 
 # f, n, x, g, h: f calls itself, and g within it gives it.
@@ -235,17 +234,7 @@ class Knowing(Packed):
 
 class Against(Packed):
     def plans(self, program, at):
-        """Plans as in point 29: nothing, some, all known; the least cells, more, fewer, all, none."""
-        chance = random.Random(at)
-        many = range(len(Spelled(program).makings))
-        for known in knowns(program, at):
-            names = Known(Spelled(program), known).names
-            free = [m for m in many if m not in names]
-            least = least_cells(program, known=known)
-            some = tuple(m for m in free if m in least or chance.randrange(2))
-            few = tuple(m for m in free if chance.randrange(2))
-            for cells in sorted({least, some, few, tuple(free), ()}):
-                yield Plan(known=known, cells=cells)
+        return holding_plans(program, at)[1:] + lacking_plans(program, at)
 
     def test_drawn_programs(self):
         words = set()
@@ -279,13 +268,13 @@ class Against(Packed):
         others = lively_programs(4, first=600)
         for at, program in enumerate(lively_programs(8)):
             kept = copy.deepcopy(program)
-            plans = list(self.plans(program, at))
+            plans = self.plans(program, at)
             before = [packed(program, plan) for plan in plans]
             for other in others:
                 for way in (COPIED, CELLED, HANDED):
                     packed(other, plan_of(other, way))
             self.assertEqual([packed(program, plan) for plan in plans], before)
-            self.assertEqual(plans, list(self.plans(program, at)))
+            self.assertEqual(plans, self.plans(program, at))
             self.assertEqual(program, kept)
 
     def test_kinds(self):
